@@ -1,0 +1,1 @@
+"""Object graphs: who keeps whom, kept sizes, cuts and parted ways."""
