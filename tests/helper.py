@@ -17,8 +17,8 @@ EXAMPLE = [
 ]
 
 
-def load(row):
-    return [0, len(row)] + row
+def load(numbers):
+    return [0, len(numbers)] + numbers
 
 
 def row():
@@ -33,12 +33,12 @@ def live():
     return [3]
 
 
-def without(objects, cut):
-    return [4, len(objects)] + objects + [len(cut)] + cut
+def without(objects, cut_holds):
+    return [4, len(objects)] + objects + [len(cut_holds)] + cut_holds
 
 
-def around(x, objects, cut):
-    return [5, x, len(objects)] + objects + [len(cut)] + cut
+def around(x, objects, cut_holds):
+    return [5, x, len(objects)] + objects + [len(cut_holds)] + cut_holds
 
 
 def keeps(x, y):
@@ -51,6 +51,38 @@ def keepers(y):
 
 def tree():
     return [8]
+
+
+def kept(objects):
+    return [9, len(objects)] + objects
+
+
+def sizes():
+    return [10]
+
+
+def kinds():
+    return [11]
+
+
+def frees(cut_holds):
+    return [12, len(cut_holds)] + cut_holds
+
+
+def best():
+    return [13]
+
+
+def cut(x):
+    return [14, x]
+
+
+def ways(x):
+    return [15, x]
+
+
+def release(gone):
+    return [16, len(gone)] + gone
 
 
 def undo():
@@ -69,8 +101,23 @@ def graph_row(objects, roots):
 
 def strong_row(leads, roots):
     """A graph row of strong fields alone: for each object the objects to which it leads."""
-    objects = [(0, 1, [(0, 0, lead) for lead in own]) for own in leads]
+    return sized_row([1] * len(leads), leads, roots)
+
+
+def sized_row(own_sizes, leads, roots):
+    """A row as strong_row's, and each object's size."""
+    objects = [(0, size, [(0, 0, lead) for lead in own]) for size, own in zip(own_sizes, leads, strict=True)]
     return graph_row(objects, roots)
+
+
+# All at its greatest: 16 roots to object 0, each object up to 13 with all its fields to the one behind it, 12 of each
+# but 4 of object 13; from 15 on all are lost.
+GREATEST = graph_row(
+    [(99, 1000000, [(199, 0, number + 1)] * 12) for number in range(13)]
+    + [(98, 1000000, [(199, 0, 14)] * 4)]
+    + [(97, 1000000, [])] * 34,
+    [0] * 16,
+)
 
 
 def split_answers(told):

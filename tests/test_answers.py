@@ -5,13 +5,15 @@ import inspect
 import io
 
 from tests.helper import (
-    EXAMPLE, AskCase, around, holds, keepers, keeps, live, load, row, strong_row, tree, undo, without,
+    EXAMPLE, AskCase, around, best, cut, frees, holds, keepers, keeps, kept, kinds, live, load, release, row, sizes,
+    strong_row, tree, undo, ways, without,
 )
 from whokeepsdesk.graph import answers
 
 LINE = (
     load(EXAMPLE) + row() + holds() + live() + keepers(3) + tree()
-    + without([2], []) + without([], [0]) + around(3, [1], []) + keeps(0, 0)
+    + without([2], []) + without([], [0]) + kept([0, 2]) + sizes() + best() + cut(3) + ways(3)
+    + around(3, [1], []) + keeps(0, 0) + kinds() + frees([0, 5]) + release([0, 5]) + live()
 )
 TOLD = (
     [3, 0, 5, 7]
@@ -22,8 +24,17 @@ TOLD = (
     + [13, 0, 0, 0, 1, 1, 0, 1, 2, 0, 1, 3, 0, 1]
     + [4, 0, 0, 1, 3]
     + [4, 0, 1, 2, 3]
+    + [6, 0, 71, 0, 1, 2, 3]
+    + [9, 0, 3, 40, 2, 20, 1, 10, 0, 1]
+    + [4, 0, 0, 1, 1]
+    + [3, 0, 0, 1]
+    + [9, 0, 2, 3, 0, 2, 4, 2, 1, 5]
     + [3, 0, 1, 5]
     + [2, 0, 1]
+    + [5, 0, 0, 4, 71, 71]
+    + [5, 0, 51, 0, 1, 3]
+    + [3, 0, 3, 51]
+    + [2, 0, 2]
 )
 
 
@@ -48,9 +59,20 @@ class AnswersTest(AskCase):
         line = load([]) + without([0], []) + without([], [0]) + undo() + around(0, [], [])
         self.assertEqual(answers(line), [1, -12, 1, -3, 1, -10, 1, -11, 1, -3])
         self.assertEqual(answers(load([1, 0, 0, 0, 0]) + keepers(0)), [3, 0, 1, 0, 1, -4])
+        line = kept([0]) + frees([0]) + cut(0) + ways(0) + release([0])
+        self.assertEqual(answers(line), [1, -3, 1, -10, 1, -3, 1, -3, 1, -10])
+        self.assertEqual(answers(load([1, 0, 0, 0, 0]) + cut(0) + ways(0)), [3, 0, 1, 0, 1, -4, 1, -4])
 
     def test_1_is_alone_too(self):
-        self.assertEqual(answers(load([1, 0, 0, 0, 0]) + around(0, [], [])), [3, 0, 1, 0, 1, 1])
+        self.assertEqual(answers(load([1, 0, 0, 0, 0]) + around(0, [], []) + best()), [3, 0, 1, 0, 1, 1, 1, 1])
+
+    def test_every_call_on_a_new_object(self):
+        line = (
+            load([0, 0]) + row() + holds() + live() + without([], []) + around(0, [], []) + keeps(0, 0) + keepers(0)
+            + tree() + kept([]) + sizes() + kinds() + frees([]) + best() + cut(0) + ways(0) + release([]) + undo()
+        )
+        told = [3, 0, 0, 0, 3, 0, 0, 0] + [1, 0] * 3 + [1, -3] * 3 + [1, 0, 2, 0, 0, 1, 0, 1, 0, 2, 0, 0, 1, 1]
+        self.assertEqual(answers(line), told + [1, -3, 1, -3, 3, 0, 0, 0, 1, 0])
 
     def test_one_call(self):
         self.assertEqual(answers([3]), [1, 0])
@@ -59,6 +81,8 @@ class AnswersTest(AskCase):
         # Lists are gone past by their counts, whatever stands in them, in refused calls too.
         line = load([17, 17, 1, 3]) + without([3, 17], [0, 1]) + around(1, [3], [17]) + keeps(17, 17) + live()
         self.assertEqual(answers(line), [1, -12, 1, -3, 1, -3, 1, -3, 1, 0])
+        line = kept([17, 16, 1]) + frees([13, 0]) + cut(17) + ways(16) + release([17, 17]) + live()
+        self.assertEqual(answers(line), [1, -3, 1, -10, 1, -3, 1, -3, 1, -10, 1, 0])
 
     def test_what_is_handed_in_is_not_changed(self):
         calls = UnchangedList(LINE + undo())
@@ -97,3 +121,5 @@ class AnswersTest(AskCase):
     def test_the_greatest_lists(self):
         calls = load(EXAMPLE) + without([2] * 1000, [6] * 1000) + around(3, [1] * 1000, [3] * 1000)
         self.assertEqual(answers(calls)[4:], [4, 0, 0, 1, 3, 3, 0, 1, 5])
+        calls = load(EXAMPLE) + kept([2, 0] * 500) + frees([5, 0] * 500) + release([5, 0] * 500)
+        self.assertEqual(answers(calls)[4:], [6, 0, 71, 0, 1, 2, 3, 5, 0, 51, 0, 1, 3, 3, 0, 3, 51])

@@ -140,3 +140,33 @@ class LanguageTest(unittest.TestCase):
                 if isinstance(node, (ast.arg, ast.Name)):
                     for bound in bound_names(node):
                         self.assertNotIn(bound, taken, name)
+
+    def test_no_name_is_a_method_and_a_value(self):
+        methods = []
+        values = []
+        for name, node in nodes():
+            if isinstance(node, ast.ClassDef):
+                own = [each.name for each in node.body if isinstance(each, ast.FunctionDef)]
+                self.assertEqual(len(own), len(set(own)), f"{name}: {node.name}")
+                methods += own
+            if isinstance(node, ast.Attribute) and isinstance(node.ctx, ast.Store):
+                values.append(node.attr)
+        self.assertEqual(set(methods) & set(values), set())
+        self.assertEqual(set(values) & set(METHODS), set())
+
+    def test_no_sets(self):
+        for name, node in nodes():
+            self.assertNotIsInstance(node, ast.Set, name)
+            if isinstance(node, ast.Name):
+                self.assertNotIn(node.id, ("set", "frozenset"), name)
+
+    def test_no_two_files_draw_from_one_another(self):
+        drawn = {}
+        for name, tree in trees():
+            froms = [node.module for node in tree.body if isinstance(node, ast.ImportFrom)]
+            drawn[name] = [module.split(".")[1] + ".py" for module in froms]
+        while drawn:
+            free = [name for name in drawn if not any(each in drawn for each in drawn[name])]
+            self.assertNotEqual(free, [], f"a ring among {sorted(drawn)}")
+            for name in free:
+                drawn.pop(name)

@@ -1,13 +1,16 @@
 """The calls on one object, and what they answer."""
 
 from whokeepsdesk.desk import Desk
-from whokeepsdesk.keeping import keepers_by_object, keeps
-from whokeepsdesk.reach import first_way, live_objects
+from whokeepsdesk.freeing import best_hold, freeing_holds, graph_without
+from whokeepsdesk.keeping import keepers_by_object, keeps, kept_sizes, live_by_kind
+from whokeepsdesk.parting import told_cut, told_ways
+from whokeepsdesk.reach import first_way, live_objects, lost_objects
 from whokeepsdesk.reader import Reader
-from whokeepsdesk.rows import NoGraphRow, read_graph, tell_row
+from whokeepsdesk.rows import NoGraphRow, read_graph, size_of, tell_row
 
 DONE = 0
 NO_WAY = 1
+NOTHING_FREED = 1
 NO_OBJECT = -3
 LOST = -4
 NO_HOLD = -10
@@ -26,6 +29,15 @@ def refusal_of(graph, objects, holds):
 
 def all_below(numbers, bound):
     return all([0 <= number < bound for number in numbers])
+
+
+def refusal_unless_live(graph, number):
+    """The refusal that's due where this must be a live object, or DONE."""
+    if not all_below([number], len(graph.kinds)):
+        return NO_OBJECT
+    if number not in live_objects(graph, [], []):
+        return LOST
+    return DONE
 
 
 def answer_load(desk, numbers, lists):
@@ -77,13 +89,10 @@ def answer_keeps(desk, numbers, lists):
 
 
 def answer_keepers(desk, numbers, lists):
-    refusal = refusal_of(desk.graph, numbers, [])
+    refusal = refusal_unless_live(desk.graph, numbers[0])
     if refusal != DONE:
         return [refusal]
-    keepers = keepers_by_object(desk.graph)
-    if numbers[0] not in keepers:
-        return [LOST]
-    return [DONE] + keepers[numbers[0]]
+    return [DONE] + keepers_by_object(desk.graph)[numbers[0]]
 
 
 def answer_tree(desk, numbers, lists):
@@ -92,6 +101,75 @@ def answer_tree(desk, numbers, lists):
         keeper = keepers[-2] + 1 if len(keepers) > 1 else 0
         told.extend([number, keeper, len(keepers)])
     return told
+
+
+def answer_kept(desk, numbers, lists):
+    refusal = refusal_of(desk.graph, lists[0], [])
+    if refusal != DONE:
+        return [refusal]
+    together = lost_objects(desk.graph, lists[0], [])
+    return [DONE, size_of(desk.graph, together)] + together
+
+
+def answer_sizes(desk, numbers, lists):
+    told = [DONE]
+    for pair in kept_sizes(desk.graph):
+        told.extend(pair)
+    return told
+
+
+def answer_kinds(desk, numbers, lists):
+    told = [DONE]
+    grouped = live_by_kind(desk.graph)
+    for kind in sorted(grouped):
+        own = grouped[kind]
+        together = lost_objects(desk.graph, own, [])
+        told.extend([kind, len(own), size_of(desk.graph, own), size_of(desk.graph, together)])
+    return told
+
+
+def answer_frees(desk, numbers, lists):
+    refusal = refusal_of(desk.graph, [], lists[0])
+    if refusal != DONE:
+        return [refusal]
+    freed = lost_objects(desk.graph, [], lists[0])
+    return [DONE, size_of(desk.graph, freed)] + freed
+
+
+def answer_best(desk, numbers, lists):
+    freeing = freeing_holds(desk.graph)
+    if len(freeing) == 0:
+        return [NOTHING_FREED]
+    return [DONE] + list(best_hold(freeing))
+
+
+def answer_cut(desk, numbers, lists):
+    refusal = refusal_unless_live(desk.graph, numbers[0])
+    if refusal != DONE:
+        return [refusal]
+    return [DONE] + told_cut(desk.graph, numbers[0])
+
+
+def answer_ways(desk, numbers, lists):
+    refusal = refusal_unless_live(desk.graph, numbers[0])
+    if refusal != DONE:
+        return [refusal]
+    ways = told_ways(desk.graph, numbers[0])
+    told = [DONE, len(ways)]
+    for way in ways:
+        told.append(len(way))
+        told.extend(way)
+    return told
+
+
+def answer_release(desk, numbers, lists):
+    refusal = refusal_of(desk.graph, [], lists[0])
+    if refusal != DONE:
+        return [refusal]
+    freed = lost_objects(desk.graph, [], lists[0])
+    size = size_of(desk.graph, freed)
+    desk.change(graph_without(desk.graph, lists[0]))
+    return [DONE, len(freed), size]
 
 
 def answer_undo(desk, numbers, lists):
@@ -112,6 +190,14 @@ CALLS = {
     6: (2, 0, answer_keeps),
     7: (1, 0, answer_keepers),
     8: (0, 0, answer_tree),
+    9: (0, 1, answer_kept),
+    10: (0, 0, answer_sizes),
+    11: (0, 0, answer_kinds),
+    12: (0, 1, answer_frees),
+    13: (0, 0, answer_best),
+    14: (1, 0, answer_cut),
+    15: (1, 0, answer_ways),
+    16: (0, 1, answer_release),
     17: (0, 0, answer_undo),
 }
 

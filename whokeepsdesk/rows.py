@@ -45,7 +45,8 @@ class Graph:
         self.fields = fields
         self.roots = roots
         self.holds = number_holds(roots, fields)
-        self.held = group_by_holder(self.holds, len(fields) + 1)
+        self.held = group_by_end([hold.holder for hold in self.holds], len(fields) + 1)
+        self.leading = group_by_end([holder_of(hold.lead) for hold in self.holds], len(fields) + 1)
 
 
 def empty_graph():
@@ -67,12 +68,17 @@ def holder_of(number):
     return number + 1
 
 
-def group_by_holder(holds, holders):
-    """For each holder the numbers of its holds, rising."""
-    held = [[] for holder in range(holders)]
-    for number, hold in enumerate(holds):
-        held[hold.holder].append(number)
-    return held
+def group_by_end(ends, holders):
+    """For each holder the numbers of the holds that have this end, rising."""
+    grouped = [[] for holder in range(holders)]
+    for number, end in enumerate(ends):
+        grouped[end].append(number)
+    return grouped
+
+
+def size_of(graph, numbers):
+    """The sizes of these objects together."""
+    return sum([graph.sizes[number] for number in numbers])
 
 
 def read_graph(row):
